@@ -1,0 +1,1 @@
+"""Papers whose numbers and claims follow from their rows."""
