@@ -17,6 +17,11 @@ ALLOWED_BUILTINS = set("""
     ArithmeticError OverflowError RuntimeError NotImplementedError AttributeError StopIteration NotImplemented super
     property staticmethod classmethod object float
 """.split())
+ALLOWED_METHODS = set("""
+    append clear copy count endswith extend find get index insert isalnum isalpha isdigit islower isspace isupper items
+    join keys ljust lower lstrip partition pop remove replace reverse rfind rjust rpartition rsplit rstrip setdefault
+    split splitlines startswith strip update upper values zfill bit_length
+""".split())
 BARRED_WORDS = """
     type typing typing_extensions enum Enum IntEnum StrEnum Flag IntFlag Generic Protocol ABC ABCMeta namedtuple
     NamedTuple TypedDict TYPE_CHECKING abstractmethod
@@ -48,6 +53,19 @@ def bound_names(node):
         return [node.attr]
     if isinstance(node, ast.Name) and isinstance(node.ctx, ast.Store):
         return [node.id]
+    return []
+
+
+def calls(node, names):
+    return isinstance(node, ast.Call) and isinstance(node.func, ast.Name) and node.func.id in names
+
+
+def names_bound_by(node):
+    """The names that a statement at module level defines, imports left out."""
+    if isinstance(node, (ast.FunctionDef, ast.ClassDef)):
+        return [node.name]
+    if isinstance(node, ast.Assign):
+        return [target.id for target in node.targets]
     return []
 
 
@@ -92,6 +110,46 @@ class TestNames(unittest.TestCase):
             self.assertEqual(node.level, 0, name)
             self.assertTrue(node.module == "__future__" or node.module.startswith("liveclaims."), (name, node.module))
             self.assertNotIn("*", [alias.name for alias in node.names], name)
+
+    def test_imports_name_the_file_that_defines_them(self):
+        defined = {}
+        for file in files():
+            tree = tree_of(file)
+            defined["liveclaims." + file.stem] = {name for node in tree.body for name in names_bound_by(node)}
+        for name, node in nodes(ast.ImportFrom):
+            if node.module != "__future__":
+                for alias in node.names:
+                    self.assertIn(alias.name, defined[node.module], (name, node.lineno))
+                    self.assertIsNone(alias.asname, (name, node.lineno))
+
+    def test_no_two_files_import_from_each_other(self):
+        needs = {}
+        for file in files():
+            found = [node.module for node in tree_of(file).body if isinstance(node, ast.ImportFrom)]
+            needs["liveclaims." + file.stem] = [module for module in found if module != "__future__"]
+        while needs:
+            ready = [module for module in needs if not any(other in needs for other in needs[module])]
+            self.assertNotEqual(ready, [], sorted(needs))
+            for module in ready:
+                del needs[module]
+
+    def test_one_binding_for_each_name(self):
+        for file in files():
+            tree = tree_of(file)
+            bound = [name for node in tree.body for name in names_bound_by(node)]
+            bound += [alias.name for node in tree.body if isinstance(node, ast.ImportFrom) for alias in node.names]
+            self.assertEqual(len(bound), len(set(bound)), file.name)
+
+    def test_no_local_name_is_that_of_a_class_or_an_import(self):
+        for file in files():
+            tree = tree_of(file)
+            taken = {alias.name for node in ast.walk(tree) if isinstance(node, ast.ImportFrom) for alias in node.names}
+            taken |= {node.name for node in tree.body if isinstance(node, ast.ClassDef)}
+            for node in ast.walk(tree):
+                if isinstance(node, ast.Name) and isinstance(node.ctx, ast.Store):
+                    self.assertNotIn(node.id, taken, (file.name, node.lineno))
+                if isinstance(node, ast.arg):
+                    self.assertNotIn(node.arg, taken, (file.name, node.lineno))
 
     def test_builtins(self):
         known = {name for name in dir(builtins) if not name.startswith("_")}
@@ -146,6 +204,32 @@ class TestExpressions(unittest.TestCase):
             if isinstance(node.func, ast.Name) and node.func.id in ("any", "all", "min", "max", "sum", "sorted"):
                 for given in node.args:
                     self.assertNotIsInstance(given, ast.GeneratorExp, (name, node.lineno))
+
+    def test_sets_stand_where_they_are_used(self):
+        # A Register has a method add, so that no set is built up by that name: a set is sorted, counted or looked into.
+        for file in files():
+            tree = tree_of(file)
+            allowed = set()
+            for node in ast.walk(tree):
+                if isinstance(node, ast.Call) and isinstance(node.func, ast.Name) and node.func.id in ("sorted", "len"):
+                    allowed |= {id(given) for given in node.args}
+                if isinstance(node, ast.Compare):
+                    allowed |= {id(right) for right in node.comparators}
+            for node in ast.walk(tree):
+                made = isinstance(node, (ast.Set, ast.SetComp)) or calls(node, ("set", "frozenset"))
+                self.assertTrue(not made or id(node) in allowed, (file.name, getattr(node, "lineno", None)))
+
+    def test_iterated_at_once(self):
+        for name, node in nodes((ast.Assign, ast.Return)):
+            self.assertFalse(calls(node.value, ("zip", "enumerate", "reversed", "range")), (name, node.lineno))
+            if isinstance(node.value, ast.Call) and isinstance(node.value.func, ast.Attribute):
+                self.assertNotIn(node.value.func.attr, ("items", "keys", "values"), (name, node.lineno))
+
+    def test_methods_of_builtin_values(self):
+        own = {part.name for name, node in nodes(ast.ClassDef) for part in node.body if isinstance(part, ast.FunctionDef)}
+        for name, node in nodes(ast.Call):
+            if isinstance(node.func, ast.Attribute) and node.func.attr not in own:
+                self.assertIn(node.func.attr, ALLOWED_METHODS, (name, node.lineno))
 
     def test_plain_defaults(self):
         for name, node in nodes(FUNCTIONS):
