@@ -52,7 +52,8 @@ def bounded(columns):
 
 
 # Each of these takes the tables' columns, the columns ahead of a step, and the step, whose word and length are
-# right. It returns the columns behind the step, or None if the step is invalid.
+# right; a name that stands as the other table's is in tables. It returns the columns behind the step, or None if the
+# step is invalid.
 
 def behind_keep(tables, columns, step):
     return columns if kind_or_none(columns, step[1]) == "flag" else None
@@ -102,11 +103,10 @@ def behind_sample(tables, columns, step):
 
 def behind_join(tables, columns, step):
     word, other, names = step
-    if not is_name(other) or other not in tables or not is_tuple_of(names, 1, MOST_KEYS):
+    if not is_name(other) or not is_tuple_of(names, 1, MOST_KEYS) or not are_columns(columns, names):
         return None
     others = tables[other]
-    if not are_columns(columns, names) or not are_columns(others, names):
-        return None
+    # A column that the other table does not have has another kind there, too: None.
     if any([kind_in(columns, name) != kind_in(others, name) for name in names]):
         return None
     added = tuple([column for column in others if column[0] not in names])
@@ -117,9 +117,7 @@ def behind_join(tables, columns, step):
 
 def behind_union(tables, columns, step):
     other = step[1]
-    if not is_name(other) or other not in tables:
-        return None
-    return columns if tables[other] == columns else None
+    return columns if is_name(other) and tables[other] == columns else None
 
 
 def is_total(columns, thing):

@@ -5,7 +5,7 @@ import random
 import unittest
 
 import reference
-from common import LIMIT, ODD_THINGS, Case, col, number
+from common import LIMIT, ODD_THINGS, Case, col, dear, number
 from liveclaims.claims import cells_of, check_claim, check_measure, measured, truth
 from liveclaims.errors import BadChoice, BadClaim, TooLarge
 from liveclaims.notebooks import Notebook
@@ -39,32 +39,20 @@ def costs(*values):
     return book(*[(None, value, None) for value in values])
 
 
-def prices():
-    """The document's setup nb."""
-    r = Register("prices", (("item", "word"), ("cost", "number")))
-    r.add(("lamp", (170, 1)), author="bo")
-    r.add(("desk", None), author="bo")
-    r.correct(1, ("desk", (181, 1)), author="di")
-    r.strike(0, author="di")
-    nb = Notebook([r])
-    nb.put("dear", ("prices", (("keep", ("less", ("value", (175, 1)), ("column", "cost"))),)))
-    return nb
-
-
 class TestExamples(Case):
     def test_share(self):
         claim = ("share", "dear", ("less", ("value", (180, 1)), ("column", "cost")), (1, 2))
-        self.same(truth(prices(), claim), True)
+        self.same(truth(dear()[1], claim), True)
 
     def test_measured(self):
-        nb = prices()
+        r, nb = dear()
         self.same((measured(nb, ("mean", "dear", "cost")), measured(nb, ("count", "dear", "item"))), ((181, 1), (1, 1)))
 
     def test_rises(self):
-        self.same(truth(prices(), ("rises", "dear", "cost")), None)
+        self.same(truth(dear()[1], ("rises", "dear", "cost")), None)
 
     def test_arguments_by_name(self):
-        nb = prices()
+        r, nb = dear()
         self.assertIsNone(check_measure(measure=("sum", "dear", "cost"), notebook=nb))
         self.assertIsNone(check_claim(claim=("rises", "dear", "cost"), notebook=nb))
         self.same(measured(measure=("sum", "dear", "cost"), notebook=nb, setting={}), (181, 1))
@@ -475,6 +463,18 @@ class TestTries(Case):
         claim = ("more", ("count", "c", "item"), ("count", "d", "item"), (0, 1))
         truth(self.nb, claim, setting={"a": 2, "x": 1})
         self.same(self.nb.tries(), [(claim, (("x", 1),))])
+
+    def test_labels_ascending(self):
+        names = ("q", "b", "k", "z", "m", "f", "t")
+        for cell, labels in (("g", names[:4]), ("h", names[3:])):
+            self.nb.put(cell, ("r", tuple([("choose", label, ((), ())) for label in labels])))
+        claim = ("more", ("sum", "h", "cost"), ("sum", "g", "cost"), (0, 1))
+        truth(self.nb, claim, setting={"z": 1, "b": 1, "m": 0})
+        self.same(self.nb.tries(), [(claim, (("b", 1), ("f", 0), ("k", 0), ("m", 0), ("q", 0), ("t", 0), ("z", 1)))])
+        wrong = {label: 2 for label in names}
+        for label in sorted(names):
+            self.same(self.refused(BadChoice, truth, self.nb, claim, setting=wrong).label, label)
+            del wrong[label]
 
     def test_unlike_claims(self):
         flag = ("share", "c", ("value", True), (0, 1))

@@ -5,7 +5,7 @@ import random
 import unittest
 
 import reference
-from common import Case, col, number
+from common import GOODS as COLUMNS, Case, col, goods
 from liveclaims.errors import BadChoice, BadLabel, BadStep, Breaks, Cycle, InUse, TooLarge, UnknownName
 from liveclaims.notebooks import Notebook
 from liveclaims.registers import Register
@@ -13,16 +13,8 @@ from liveclaims.running import run
 from liveclaims.steps import check, reads_of, resolved
 from liveclaims.tables import register_table
 
-COLUMNS = (("item", "word"), ("cost", "number"), ("sold", "flag"))
 FIRST = ("first", 1)
 UP = ("sort", "cost", "up")
-
-
-def goods(name="r", rows=3):
-    r = Register(name, COLUMNS)
-    for at in range(rows):
-        r.add(("abcdefgh"[at % 8], (at, 1), at % 2 == 0), author="bo")
-    return r
 
 
 def direct(nb, name, setting):

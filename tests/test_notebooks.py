@@ -2,40 +2,14 @@
 
 import unittest
 
-from common import ODD_THINGS, Case, col, number
+from common import GOODS as COLUMNS, ODD_THINGS, Case, col, dear, goods, number
 from liveclaims.errors import (BadChoice, BadLabel, BadName, BadRegisters, BadStep, Breaks, Cycle, InUse, TooLarge,
                                UnknownName)
 from liveclaims.notebooks import Notebook
 from liveclaims.registers import Register
 from liveclaims.tables import Table
 
-COLUMNS = (("item", "word"), ("cost", "number"), ("sold", "flag"))
 FIRST = ("first", 1)
-
-
-def prices():
-    """The document's setup r."""
-    r = Register("prices", (("item", "word"), ("cost", "number")))
-    r.add(("lamp", (170, 1)), author="bo")
-    r.add(("desk", None), author="bo")
-    r.correct(1, ("desk", (181, 1)), author="di")
-    r.strike(0, author="di")
-    return r
-
-
-def setup():
-    """The document's setup nb."""
-    r = prices()
-    nb = Notebook([r])
-    nb.put("dear", ("prices", (("keep", ("less", ("value", (175, 1)), ("column", "cost"))),)))
-    return r, nb
-
-
-def goods(name="r", rows=3):
-    r = Register(name, COLUMNS)
-    for at in range(rows):
-        r.add(("abcdefgh"[at % 8], (at, 1), at % 2 == 0), author="bo")
-    return r
 
 
 def choose(label, count=2):
@@ -66,31 +40,31 @@ class Book(Case):
 
 class TestExamples(Case):
     def test_value(self):
-        r, nb = setup()
+        r, nb = dear()
         self.same(nb.value("dear").rows(), [(("desk", (181, 1)), (("prices", 1),))])
 
     def test_equal_tables_are_not_evaluated_again(self):
-        r, nb = setup()
+        r, nb = dear()
         nb.value("dear")
         r.correct(1, ("desk", (181, 1)), author="ed")
         nb.value("dear")
         self.same(nb.evaluated(), ["dear"])
 
     def test_a_new_row_is(self):
-        r, nb = setup()
+        r, nb = dear()
         nb.value("dear")
         r.add(("mat", (100, 1)), author="ed")
         nb.value("dear")
         self.same(nb.evaluated(), ["dear", "dear"])
 
     def test_cells(self):
-        r, nb = setup()
+        r, nb = dear()
         nb.put("cheap", ("dear", (("first", 1),)))
         self.same((nb.names(), nb.reads("cheap"), nb.is_simple("cheap"), nb.is_rowwise("cheap")),
                   (["dear", "cheap"], ["dear"], True, False))
 
     def test_drop(self):
-        r, nb = setup()
+        r, nb = dear()
         self.same(self.refused(UnknownName, nb.drop, "prices").key, "prices")
 
 

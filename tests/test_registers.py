@@ -2,6 +2,7 @@
 
 import unittest
 
+from common import Case, prices
 from liveclaims.errors import BadColumns, BadName, BadRow, NoRow, NoVersion, TooLarge
 from liveclaims.registers import Register, check_columns, is_name, is_value
 
@@ -26,32 +27,10 @@ WRONG_NUMBERS = (-1, -2, True, False, None, 0.0, 1.0, 0.5, float("nan"), "0", "1
                  {0: 0}, {0}, len, Register("a", (("a", "word"),)), LIMIT, -LIMIT)
 
 
-def made():
-    """The document's setup r."""
-    r = Register("prices", (("item", "word"), ("cost", "number")))
-    r.add(("lamp", (170, 1)), author="bo")
-    r.add(("desk", None), author="bo")
-    r.correct(1, ("desk", (181, 1)), author="di")
-    r.strike(0, author="di")
-    return r
-
-
 def state(r):
     return (r.name(), r.columns(), r.version(), len(r), r.rows(), r.entries(),
             [r.rows(version) for version in range(r.version() + 1)],
             [r.authors(entry[1]) for entry in r.entries() if entry[0] == "add"])
-
-
-class Case(unittest.TestCase):
-    def refused(self, error, call, *given, **named):
-        with self.assertRaises(error) as caught:
-            call(*given, **named)
-        self.assertIs(type(caught.exception), error)
-        return caught.exception
-
-    def same(self, found, expected):
-        """Equal also by its kinds: True is not 1 here, nor a list a tuple."""
-        self.assertEqual(repr(found), repr(expected))
 
 
 class TestNames(Case):
@@ -247,10 +226,10 @@ class TestMaking(Case):
 
 class TestHistory(Case):
     def test_examples(self):
-        self.same((made().rows(), made().rows(2)),
+        self.same((prices().rows(), prices().rows(2)),
                   ([(1, ("desk", (181, 1)))], [(0, ("lamp", (170, 1))), (1, ("desk", None))]))
-        self.same((made().version(), len(made()), made().authors(1)), (4, 1, ["bo", "di"]))
-        self.assertEqual(self.refused(NoRow, made().strike, 0, author="bo").number, 0)
+        self.same((prices().version(), len(prices()), prices().authors(1)), (4, 1, ["bo", "di"]))
+        self.assertEqual(self.refused(NoRow, prices().strike, 0, author="bo").number, 0)
 
     def test_results_of_the_changes(self):
         r = Register("r", COLUMNS)
@@ -259,7 +238,7 @@ class TestHistory(Case):
         self.assertIsNone(r.strike(1, author="bo"))
 
     def test_what_it_was_made_of(self):
-        self.same((made().name(), made().columns()), ("prices", (("item", "word"), ("cost", "number"))))
+        self.same((prices().name(), prices().columns()), ("prices", (("item", "word"), ("cost", "number"))))
 
     def test_numbers_are_never_used_again(self):
         r = Register("r", COLUMNS)
@@ -273,12 +252,12 @@ class TestHistory(Case):
         self.same(r.add(ROW, author="bo"), 6)
 
     def test_entries(self):
-        self.same(made().entries(), [
+        self.same(prices().entries(), [
             ("add", 0, ("lamp", (170, 1)), "bo"), ("add", 1, ("desk", None), "bo"),
             ("correct", 1, ("desk", (181, 1)), "di"), ("strike", 0, None, "di")])
 
     def test_authors(self):
-        r = made()
+        r = prices()
         self.same((r.authors(0), r.authors(number=1)), (["bo", "di"], ["bo", "di"]))
         r.correct(1, ("desk", None), author="bo")
         r.correct(1, ("desk", None), author="bo")
@@ -321,7 +300,7 @@ class TestHistory(Case):
         self.same([number for number, values in r.rows()], list(range(12)))
 
     def test_a_correction_to_the_same_values_is_an_entry(self):
-        r = made()
+        r = prices()
         r.correct(1, ("desk", (181, 1)), author="ed")
         self.same((r.version(), r.rows(), r.authors(1)), (5, r.rows(4), ["bo", "di", "ed"]))
 
@@ -353,7 +332,7 @@ class TestHistory(Case):
         self.same(r.entries(), [("add", 0, ROW, "bo"), ("correct", 0, OTHER_ROW, "di"), ("strike", 0, None, "ed")])
 
     def test_author_only_by_name(self):
-        r = made()
+        r = prices()
         before = state(r)
         self.assertRaises(TypeError, r.add, ("mat", None), "bo")
         self.assertRaises(TypeError, r.correct, 1, ("mat", None), "bo")
@@ -362,7 +341,7 @@ class TestHistory(Case):
         self.same(state(r), before)
 
     def test_what_was_told_earlier_stays(self):
-        r = made()
+        r = prices()
         told = (r.rows(), r.rows(2), r.entries(), r.authors(1), r.version(), len(r))
         before = repr(told)
         r.add(("mat", None), author="ed")
@@ -371,7 +350,7 @@ class TestHistory(Case):
         self.assertEqual(repr(told), before)
 
     def test_what_is_told_belongs_to_the_caller(self):
-        r = made()
+        r = prices()
         before = state(r)
         for tell in (r.rows, lambda: r.rows(2), lambda: r.rows(0), r.entries, lambda: r.authors(1), lambda: r.authors(0)):
             told = tell()
@@ -387,7 +366,7 @@ class TestHistory(Case):
 
 class TestTwinAndEquality(Case):
     def test_a_twin_is_equal_and_goes_its_own_way(self):
-        r = made()
+        r = prices()
         other = r.twin()
         self.assertIs(type(other), Register)
         self.assertIsNot(other, r)
@@ -404,7 +383,7 @@ class TestTwinAndEquality(Case):
         self.same(state(other), before)
 
     def test_twins_that_go_the_same_way_are_equal(self):
-        r = made()
+        r = prices()
         other = r.twin()
         for one in (r, other):
             one.add(("mat", None), author="ed")
@@ -415,8 +394,8 @@ class TestTwinAndEquality(Case):
         self.assertTrue(r.twin() == r)
 
     def test_equal_registers(self):
-        self.assertIs(made() == made(), True)
-        self.assertIs(made() != made(), False)
+        self.assertIs(prices() == prices(), True)
+        self.assertIs(prices() != prices(), False)
 
     def test_unlike_names_columns_or_entries(self):
         def grown(name="r", columns=COLUMNS, changes=()):
@@ -442,7 +421,7 @@ class TestTwinAndEquality(Case):
                 self.assertIs(one != other, at != place, (at, place))
 
     def test_equal_to_nothing_else(self):
-        r = made()
+        r = prices()
         for other in (None, True, 1, 1.5, "prices", b"", r.rows(), r.entries(), (r.name(), r.columns(), r.entries()),
                       [r], (r,), {}, Register, BadName("prices"), r.name, object()):
             self.assertIs(r == other, False)

@@ -2,7 +2,7 @@
 
 import unittest
 
-from common import ODD_THINGS, Case
+from common import ODD_THINGS, Case, prices
 from liveclaims.errors import NoVersion, UnknownName
 from liveclaims.registers import Register
 from liveclaims.tables import Table, register_table
@@ -110,22 +110,14 @@ class TestEquality(Case):
 
 
 class TestRegisterTable(Case):
-    def made(self):
-        r = Register("prices", (("item", "word"), ("cost", "number")))
-        r.add(("lamp", (170, 1)), author="bo")
-        r.add(("desk", None), author="bo")
-        r.correct(1, ("desk", (181, 1)), author="di")
-        r.strike(0, author="di")
-        return r
-
     def test_now(self):
-        table = register_table(self.made())
+        table = register_table(prices())
         self.assertIsInstance(table, Table)
         self.same(table.columns(), (("item", "word"), ("cost", "number")))
         self.same(table.rows(), [(("desk", (181, 1)), (("prices", 1),))])
 
     def test_each_version(self):
-        r = self.made()
+        r = prices()
         expected = [
             [],
             [(("lamp", (170, 1)), (("prices", 0),))],
@@ -139,12 +131,12 @@ class TestRegisterTable(Case):
         self.assertEqual(register_table(r, None), register_table(r, 4))
 
     def test_versions_that_are_not_there(self):
-        r = self.made()
+        r = prices()
         for version in (5, -1, True, False, 1.0, "1", "", (), [], {}, {1}, 10 ** 50, r):
             self.assertIs(self.refused(NoVersion, register_table, r, version).given, version)
 
     def test_later_changes_are_not_seen(self):
-        r = self.made()
+        r = prices()
         table = register_table(r)
         r.add(("mat", None), author="bo")
         self.assertEqual(len(table), 1)
