@@ -2,7 +2,7 @@
 
 from liveclaims.errors import TooLarge
 from liveclaims.expressions import evaluate, limited
-from liveclaims.steps import columns_behind, resolved
+from liveclaims.steps import columns_behind, reads_of, resolved
 from liveclaims.tables import Table, names_of, union_of
 from liveclaims.totals import by_size, total
 
@@ -157,3 +157,18 @@ def run(tables, pipeline, *, setting=None):
         rows = follow(tables, table, step)
         table = Table(columns_behind(shapes, table.columns(), step), rows)
     return table
+
+
+def run_all(tables, plans):
+    """The tables and what the pipelines give; one that is TooLarge, or reads what is not there, is left out.
+
+    The plans are a dict from names to pipelines that stand behind those that they read.
+    """
+    found = dict(tables)
+    for name, plan in plans.items():
+        if all([other in found for other in reads_of(plan)]):
+            try:
+                found[name] = run(found, plan)
+            except TooLarge:
+                continue
+    return found

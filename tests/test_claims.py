@@ -6,8 +6,10 @@ import unittest
 
 import reference
 from common import LIMIT, ODD_THINGS, Case, col, dear, number
+from liveclaims.choices import decisive, robustness
 from liveclaims.claims import cells_of, check_claim, check_measure, measured, truth
 from liveclaims.errors import BadChoice, BadClaim, TooLarge
+from liveclaims.firmness import firmness
 from liveclaims.notebooks import Notebook
 from liveclaims.registers import Register
 
@@ -151,8 +153,8 @@ class TestInvalid(Case):
             self.bad_claim(claim)
 
     def bad_claim(self, claim):
-        self.refused(BadClaim, check_claim, self.nb, claim)
-        self.refused(BadClaim, truth, self.nb, claim)
+        for call in (check_claim, truth, firmness, robustness, decisive):
+            self.refused(BadClaim, call, self.nb, claim)
         # Ahead of a wrong choice.
         self.refused(BadClaim, truth, self.nb, claim, setting={"x": 9})
         self.same((self.nb.tries(), self.nb.evaluated()), ([], []))

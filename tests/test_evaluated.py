@@ -6,6 +6,7 @@ import unittest
 
 import reference
 from common import GOODS as COLUMNS, Case, col, goods
+from liveclaims.claims import truth
 from liveclaims.errors import BadChoice, BadLabel, BadStep, Breaks, Cycle, InUse, TooLarge, UnknownName
 from liveclaims.notebooks import Notebook
 from liveclaims.registers import Register
@@ -360,6 +361,33 @@ class TestTooLarge(Case):
         self.same(self.refused(TooLarge, self.nb.value, "c", setting={"x": 1}).size, 1200)
         self.same(self.nb.evaluated(), [])
         self.assertEqual(len(self.nb.value("c", setting={"x": 0})), 800)
+
+    def test_by_a_join(self):
+        # Of 32 rows of one item each finds 32 partners.
+        r = Register("r", (("item", "word"), ("cost", "number")))
+        s = Register("s", (("item", "word"), ("size", "number")))
+        for at in range(32):
+            r.add(("a", (at, 1)), author="bo")
+            s.add(("a", (at, 1)), author="bo")
+        nb = Notebook([r, s])
+        nb.put("b", ("r", (("join", "s", ("item",)),)))
+        nb.put("c", ("b", (("first", 1),)))
+        claim = ("least", ("count", "c", "item"), (1, 1))
+        for turn in (1, 2):
+            self.same(self.refused(TooLarge, nb.value, "c").size, 1024)
+            self.same(self.refused(TooLarge, truth, nb, claim).size, 1024)
+        self.same((nb.evaluated(), nb.tries()), (["b", "b", "b", "b"], [(claim, ())]))
+        r.strike(5, author="bo")
+        self.same(truth(nb, claim), True)
+        self.assertEqual(len(nb.value("b")), 31 * 32)
+        self.same(nb.evaluated(), ["b", "b", "b", "b", "b", "c"])
+        # Too large again: what was kept of both stays.
+        number_of = r.add(("a", None), author="bo")
+        self.refused(TooLarge, nb.value, "c")
+        r.strike(number_of, author="bo")
+        self.same(truth(nb, claim), True)
+        self.same(nb.evaluated(), ["b", "b", "b", "b", "b", "c", "b"])
+        self.same(nb.tries(), [(claim, ())])
 
     def test_smaller_again(self):
         self.nb.choose("x", 1)
