@@ -43,10 +43,10 @@ def label_numbers(cells):
     return {label: number for label, number in pairs}
 
 
-def plans_for(cells, name, setting):
-    """The resolved pipelines of a cell and of all cells that it reads by them, in dependency order."""
+def plans_for(cells, names, setting):
+    """The resolved pipelines of these cells and of all cells that they read by them, in dependency order."""
     plans = {}
-    wanted = {name: True}
+    wanted = {name: True for name in names}
     # Backwards each cell stands behind all those that read it.
     for cell in reversed(dependency_order(cells)):
         if cell in wanted:
@@ -56,7 +56,7 @@ def plans_for(cells, name, setting):
 
 
 def are_simple(plans):
-    """Whether the last of these cells is simple; the plans are those of plans_for."""
+    """Whether the last of these cells is simple; the plans are those of plans_for, for it alone."""
     merged = {}
     for cell, (source, steps) in plans.items():
         state = merged.get(source, False)
@@ -71,6 +71,6 @@ def are_simple(plans):
 
 
 def are_rowwise(plans):
-    """Whether the last of these cells is rowwise; the plans are those of plans_for."""
+    """Whether the last of these cells is rowwise; the plans are those of plans_for, for it alone."""
     # Without join and union there is one path, so it begins at one register's rows.
     return all([step[0] in ROWWISE for source, steps in plans.values() for step in steps])

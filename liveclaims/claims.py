@@ -185,9 +185,14 @@ def measured(notebook, measure, *, setting=None):
     return measure_in({cell: notebook.value(cell, setting=setting)}, measure)
 
 
-def truth(notebook, claim, *, setting=None):
-    check_claim(notebook, claim)
+def list_try(notebook, claim, setting=None):
+    """Lists in the notebook that the truth of a valid claim is asked."""
     used = notebook.setting() if setting is None else setting
     notebook.ask(claim, written_setting(labels_for(notebook, claim), used))
+
+
+def truth(notebook, claim, *, setting=None):
+    check_claim(notebook, claim)
+    list_try(notebook, claim, setting)
     tables = {cell: notebook.value(cell, setting=setting) for cell in cells_of(claim)}
     return truth_in(tables, claim)

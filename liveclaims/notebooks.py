@@ -145,13 +145,13 @@ class Notebook:
         for label, number in self.labels(name):
             chosen_index(setting, label, number)
         tables = self.register_tables()
-        for cell, plan in plans_for(self.pipes, name, setting).items():
+        for cell, plan in plans_for(self.pipes, [name], setting).items():
             tables[cell] = run(tables, plan)
         return tables[name]
 
     def current_value(self, name):
         tables = self.register_tables()
-        for cell, plan in plans_for(self.pipes, name, self.chosen).items():
+        for cell, plan in plans_for(self.pipes, [name], self.chosen).items():
             tables[cell] = self.looked_at(cell, plan, {other: tables[other] for other in reads_of(plan)})
         return tables[name]
 
@@ -171,11 +171,11 @@ class Notebook:
 
     def is_simple(self, name):
         self.check_cell(name)
-        return are_simple(plans_for(self.pipes, name, self.chosen))
+        return are_simple(plans_for(self.pipes, [name], self.chosen))
 
     def is_rowwise(self, name):
         self.check_cell(name)
-        return are_rowwise(plans_for(self.pipes, name, self.chosen))
+        return are_rowwise(plans_for(self.pipes, [name], self.chosen))
 
     def ask(self, claim, setting):
         """Lists a try, unless it is listed; the setting is a tuple of (label, index)."""
