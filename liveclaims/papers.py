@@ -109,9 +109,9 @@ class Paper:
         for label, number in label_numbers(cells).items():
             chosen_index(used, label, number)
         shapes = shapes_of(self.book)
-        valid = [hole for line, at, hole in holes_in(self.written) if is_part(shapes, hole)]
+        names = cells_in([hole for line, at, hole in holes_in(self.written)])
         tables = {origin.name(): without_rows(register_table(origin), without) for origin in self.book.registers()}
-        found = run_all(tables, plans_for(cells, cells_in(valid), used))
+        found = run_all(tables, plans_for(cells, names, used))
         lines = []
         for sentence in self.written:
             texts = [show_part(found, part) if is_part(shapes, part) else None for part in sentence]

@@ -276,6 +276,7 @@ class TestJudge(Case):
         # An edition that does not follow can come here only by hand.
         desk = at_work()
         edition = desk.page.past[0]
+        self.same(edition[0], "desk")
         for wrong, answer in ((edition[:5] + (("a",) + edition[5][1:],) + edition[6:], "line 0 -"), (edition[:6] + (edition[6] * 2,), "sheet"),
                               (edition[:6] + ((),), "line 0 0"), (edition[:2] + ((("r", 99),),) + edition[3:], "register r"),
                               (edition[:3] + ((("c", ("q", ())),),) + edition[4:], "cell c"), (edition[:5], "form")):

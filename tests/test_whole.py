@@ -126,6 +126,15 @@ class History:
         return getattr(self, word)()
 
 
+def with_holes(chance):
+    """A history, and an edition with a hole that was published in it."""
+    history = History(chance)
+    edition = None
+    while edition is None or not edition[6]:
+        edition = history.step() or edition
+    return history, edition
+
+
 class TestPublished(Case):
     def expected(self, paper):
         """The edition that the paper should publish now, or None if a hole cannot be printed."""
@@ -191,10 +200,7 @@ class TestPublished(Case):
         chance = random.Random(26)
         tried = 0
         for turn in range(40):
-            history = History(chance)
-            edition = None
-            while edition is None or not edition[6]:
-                edition = history.step() or edition
+            history, edition = with_holes(chance)
             registers = history.registers
             paths = paths_in(edition)[1:]
             things = [at_path(edition, path) for path in paths]
@@ -215,10 +221,7 @@ class TestPublished(Case):
         chance = random.Random(28)
         moved = 0
         for turn in range(50):
-            history = History(chance)
-            edition = None
-            while edition is None or not edition[6]:
-                edition = history.step() or edition
+            history, edition = with_holes(chance)
             for origin in history.registers:
                 for row in range(len(origin.entries())):
                     expected = [entry[:2] for entry in edition[6] if (origin.name(), row) in entry[3]]
